@@ -74,7 +74,7 @@ func (g *play) settled(t *testing.T, ahead, behind plain) bool {
 // P20.2: at whichever deed the disk dies, opening included, and whatever is kept of what isn't sure: behind the crash there is what was ahead of the call, or what is behind it, whole; and it goes on.
 func TestEveryDeath(t *testing.T) {
 	count := map[string]int{}
-	for seed := range 6 {
+	for seed := range 7 {
 		calls := append(script(seed, 5), call{"Publish", []book.Update{{Id: "a", Value: "1"}, {Id: "z", Value: "1"}}}, call{"Publish", []book.Update{{Id: "z", Value: "2"}, {Id: "b", Value: "2"}, {Id: "a", Value: "2"}}}, call{what: "Bury"}, call{what: "Drop"})
 		for deed, over := 0, false; !over; deed++ {
 			g := began(t, 1<<20, options(1, seed%2)[seed%3])
@@ -267,6 +267,31 @@ func TestFewKept(t *testing.T) {
 	}
 	if used[1] > used[0]*11/10 || used[0] > 2000+10*900 {
 		t.Errorf("%d bytes", used)
+	}
+}
+
+// P20.1, P7: with tables of a byte, too, few bytes are kept for a version, and no more tables than a store has.
+func TestSmallTables(t *testing.T) {
+	for retain, want := range map[int]int{1: 2, 1000: 700} {
+		o := options(retain, 0)[0]
+		o.Store.Mem = 1 << 20
+		d := disk.New(1 << 22)
+		b := opened(t, d, o)
+		for range 350 {
+			_, e := b.Publish([]book.Update{{Id: strings.Repeat("z", 40), Value: strings.Repeat("v", 200)}})
+			is(t, "Publish", e, api.OK)
+		}
+		for _, f := range slices.Repeat([]func() (book.Change, api.Errno){b.Bury, b.Drop}, 10) {
+			if _, e := f(); e != api.OK {
+				is(t, "Bury or Drop", e, api.ErrNone)
+			}
+		}
+		is(t, "Whole", b.Whole(), api.OK)
+		n, e := opened(t, d, o).Leaves()
+		is(t, "Leaves", e, api.OK)
+		if most := 350*n + 2000; n != want || d.Used() > most {
+			t.Errorf("%d leaves instead of %d; %d bytes, and at most %d", n, want, d.Used(), most)
+		}
 	}
 }
 
